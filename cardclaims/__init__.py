@@ -1,0 +1,1 @@
+"""Claims: what a side gets that doesn't play on."""
