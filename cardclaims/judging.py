@@ -1,6 +1,6 @@
 """Judging: the least that a side gets in all plays that its statement lets."""
 
-from cardclaims.position import position_behind, trick_won
+from cardclaims.position import key_of, position_behind, trick_won
 from cardclaims.statement import ANY_CARD, Statement, cards_let
 
 
@@ -10,12 +10,6 @@ class Judging:
     def __init__(self, statement):
         self.statement = statement
         self.known = {}
-
-
-def key_of(position):
-    """What tells a position from the others of its deal that can be met."""
-    # The winner is left out: within one deal the best card tells whose it is.
-    return (position.left, position.seat, position.count, position.led, position.best)
 
 
 def judged(judging, position):
@@ -43,7 +37,7 @@ def judged_with(judging, position, card):
     return trick_won(behind, judging.statement.side) + judged(judging, behind)
 
 
-def sure(position, side):
+def sure_for(position, side):
     """What no play at all could lose for the side."""
     return judged(Judging(Statement(side, ANY_CARD, [])), position)
 

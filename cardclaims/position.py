@@ -52,6 +52,17 @@ def hand_of(position, seat):
     return [card for card in position.deal.hands[seat] if (left >> card) & 1]
 
 
+def leader_of(position):
+    """The seat that leads to the trick."""
+    return (position.seat - position.count) % SEATS
+
+
+def key_of(position):
+    """What tells a position from the others of its deal that can be met."""
+    # The winner is left out: within one deal the best card tells whose it is.
+    return (position.left, position.seat, position.count, position.led, position.best)
+
+
 def tricks_of_rest(position):
     """How many tricks aren't whole yet, a begun one counted."""
     # Who has not yet played to a begun trick still has a card for it: the longest hand counts it.

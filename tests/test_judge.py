@@ -5,7 +5,7 @@ import random
 import unittest
 
 from helper import FAR, OUT_OF_RANGE, PlainPosition, ask, back, claim, deal, judge, last, play, plays, row, turn
-from helper import withdraw, worst
+from helper import some_hands, withdraw, worst
 
 # Side 0 leads from its highest and lowest card of suit 0; the others' high cards there are parted.
 KING_OUT = deal(4, 0, (0, 12), (11, 13), (26, 27), (9, 10))
@@ -154,13 +154,6 @@ class OutOfRange(unittest.TestCase):
         self.assertEqual(got[4:], [[0, 1, 0, 0, 1, 11], [0, 0, 0, 0]])
 
 
-def some_hands(source, size, suits):
-    """Hands from the lowest cards of so many suits, so that they meet one another often."""
-    cards = [13 * suit + place for suit in range(suits) for place in range(13)]
-    picked = source.sample(cards, 4 * size)
-    return [picked[seat * size:(seat + 1) * size] for seat in range(4)]
-
-
 def some_row(source, hands):
     known = [card for hand in hands for card in hand]
     return [source.choice(known) if source.random() < 0.8 else source.randrange(52)
@@ -175,7 +168,7 @@ class AgainstAPlainWalk(unittest.TestCase):
 
     def begun(self, source, size, suits, most_played):
         """Calls that lead to a position, and the position."""
-        hands = some_hands(source, size, suits)
+        hands = some_hands(source, size, 13 * suits)
         trump = source.randrange(5)
         leader = source.randrange(4)
         position = PlainPosition(hands, trump, leader)
